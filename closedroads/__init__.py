@@ -1,0 +1,1 @@
+"""Closedroads: can closing a road ever help all?"""

@@ -1,0 +1,91 @@
+import ast
+import inspect
+import pathlib
+import unittest
+
+import closedroads
+from closedroads import webs
+from closedroads.errors import NotAWeb, UnknownRoad
+from closedroads.webs import Web, need_index, need_web
+from tests.samples import Agreeing, Touchy, cross, odd_values, twins
+
+FOLDER = pathlib.Path(closedroads.__file__).parent
+
+
+class Interface(unittest.TestCase):
+    def test_web_is_defined_in_its_file(self):
+        self.assertEqual(Web.__module__, "closedroads.webs")
+        self.assertIn("class Web", inspect.getsource(webs))
+
+    def test_methods_are_defined_in_the_class_itself(self):
+        names = ["told", "origin", "goal", "roads", "places", "__len__", "__str__", "__eq__"]
+        for name in names + ["costing", "closed", "turned", "widened"]:
+            self.assertIn(name, vars(Web))
+        self.assertIsInstance(vars(Web)["told"], classmethod)
+        for name in ("origin", "goal", "roads", "places"):
+            self.assertIsInstance(vars(Web)[name], property)
+
+    def test_names_of_parameters(self):
+        shapes = {
+            Web: "(origin, goal, roads)",
+            Web.told: "(text)",
+            Web.costing: "(self, index, base, rise)",
+            Web.closed: "(self, indexes)",
+            Web.turned: "(self)",
+            Web.widened: "(self, road)",
+        }
+        for told, shape in shapes.items():
+            self.assertEqual(str(inspect.signature(told)), shape)
+
+
+class Parameters(unittest.TestCase):
+    """What the parameters `web` and `index` raise wherever they stand."""
+
+    def test_what_is_no_web(self):
+        for value in odd_values() + ["a b\na b 0 1", (), ("a", "b", (("a", "b", 0, 1),))]:
+            if type(value) is not Web:
+                with self.assertRaises(NotAWeb) as caught:
+                    need_web(value)
+                self.assertIs(caught.exception.given, value)
+
+    def test_what_is_a_web(self):
+        for web in (cross(), twins(), twins().closed((0,))):
+            self.assertIsNone(need_web(web))
+
+    def test_what_is_no_index_of_a_road(self):
+        for value in odd_values() + [5, 6, 8, "1", (0,), (), [0], b"\x00", Touchy(), Agreeing()]:
+            with self.assertRaises(UnknownRoad) as caught:
+                need_index(cross(), value)
+            self.assertIs(caught.exception.given, value)
+
+    def test_what_is_an_index_of_a_road(self):
+        for index in range(5):
+            self.assertIsNone(need_index(cross(), index))
+
+
+class Sources(unittest.TestCase):
+    """The rules of the language that are told in numbers."""
+
+    def test_sizes_and_characters(self):
+        for path in sorted(FOLDER.rglob("*.py")):
+            with self.subTest(path.name):
+                text = path.read_text(encoding="utf-8")
+                lines = text.split("\n")
+                self.assertLessEqual(len(lines), 400)
+                self.assertLessEqual(max(map(len, lines)), 120)
+                self.assertTrue(all(sign == "\n" or " " <= sign <= "~" for sign in text))
+                for node in ast.walk(ast.parse(text)):
+                    if isinstance(node, ast.FunctionDef):
+                        self.assertLessEqual(node.end_lineno - node.lineno + 1, 40, node.name)
+
+    def test_no_outside_package_is_imported(self):
+        known = ("closedroads", "heapq", "math", "itertools", "collections")
+        for path in sorted(FOLDER.rglob("*.py")):
+            for node in ast.walk(ast.parse(path.read_text(encoding="utf-8"))):
+                self.assertNotIsInstance(node, ast.Import, path.name)
+                if isinstance(node, ast.ImportFrom):
+                    self.assertIn(node.module.split(".")[0], known, path.name)
+
+
+if __name__ == "__main__":
+    unittest.main()
