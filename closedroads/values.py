@@ -1,4 +1,4 @@
-"""What values are: integers within a limit, places and roads, and integers read from words."""
+"""What values are: integers within a limit, rows of indexes, places, roads, and words for integers."""
 
 from closedroads.limits import MOST_COST
 
@@ -7,6 +7,11 @@ def is_whole(value, most):
     """Whether any value is an integer from 0 to `most`."""
     # isinstance would take True and False, which are no integers here.
     return type(value) is int and 0 <= value <= most
+
+
+def is_row(value, many):
+    """Whether any value is a tuple of indexes, each of them below `many`."""
+    return type(value) is tuple and all([is_whole(index, many - 1) for index in value])
 
 
 def is_place(value):

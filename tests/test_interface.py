@@ -1,4 +1,5 @@
 import ast
+import builtins
 import inspect
 import pathlib
 import unittest
@@ -77,6 +78,27 @@ class Sources(unittest.TestCase):
                 for node in ast.walk(ast.parse(text)):
                     if isinstance(node, ast.FunctionDef):
                         self.assertLessEqual(node.end_lineno - node.lineno + 1, 40, node.name)
+
+    def test_no_generator_expressions_floats_or_quotients(self):
+        for path in sorted(FOLDER.rglob("*.py")):
+            for node in ast.walk(ast.parse(path.read_text(encoding="utf-8"))):
+                self.assertNotIsInstance(node, (ast.GeneratorExp, ast.Div), path.name)
+                self.assertFalse(isinstance(node, ast.Constant) and isinstance(node.value, float), path.name)
+
+    def test_no_name_has_two_meanings(self):
+        for path in sorted(FOLDER.rglob("*.py")):
+            tree = ast.parse(path.read_text(encoding="utf-8"))
+            nodes = list(ast.walk(tree))
+            barred = set(dir(builtins))
+            for node in nodes:
+                if isinstance(node, ast.ImportFrom):
+                    barred.update(alias.name for alias in node.names)
+                if isinstance(node, ast.ClassDef):
+                    barred.add(node.name)
+            given = [node.id for node in nodes if isinstance(node, ast.Name) and not isinstance(node.ctx, ast.Load)]
+            given += [node.arg for node in nodes if isinstance(node, ast.arg)]
+            given += [node.name for node in nodes if isinstance(node, ast.FunctionDef)]
+            self.assertEqual([name for name in given if name in barred], [], path.name)
 
     def test_no_outside_package_is_imported(self):
         known = ("closedroads", "heapq", "math", "itertools", "collections")
