@@ -51,9 +51,7 @@ def excess(web, loads):
     need_web(web)
     need_loads(web, loads)
     sums, bottom = cost_sums(web, loads)
-    greatest = max([sum_over(sums, load[0]) for load in loads])
-    least = min([sum_over(sums, way) for way in ways(web)])
-    return lowest(greatest - least, bottom)
+    return lowest(spread(web, loads, sums), bottom)
 
 
 def need_loads(web, loads):
@@ -95,10 +93,19 @@ def load_sums(web, loads):
     return sums, bottom
 
 
-def cost_sums(web, loads):
-    """The list of the numerators of what all roads cost, and their common denominator."""
+def cost_sums(web, loads, times=1):
+    """The list of the numerators of what all roads cost, and their common denominator.
+
+    It is told as if each B were so many times as great.
+    """
     sums, bottom = load_sums(web, loads)
-    return [road[2] * bottom + road[3] * top for road, top in zip(web.roads, sums)], bottom
+    return [road[2] * bottom + times * road[3] * top for road, top in zip(web.roads, sums)], bottom
+
+
+def spread(web, loads, sums):
+    """The greatest of the sums over the ways of loads less the least one over any way."""
+    greatest = max([sum_over(sums, load[0]) for load in loads])
+    return greatest - min([sum_over(sums, way) for way in ways(web)])
 
 
 def sum_over(sums, way):

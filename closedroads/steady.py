@@ -4,7 +4,7 @@ from closedroads.balance import balanced
 from closedroads.errors import InvalidAmount
 from closedroads.limits import MOST_AMOUNT, MOST_PART
 from closedroads.loads import cost_sums, sum_over
-from closedroads.ratios import are_fraction, lowest
+from closedroads.ratios import is_fraction, lowest
 from closedroads.ways import ways
 from closedroads.webs import need_web
 
@@ -20,8 +20,7 @@ def level(web, amount):
     """What each driver pays in steady loads with this amount, a fraction."""
     need_web(web)
     need_amount(amount)
-    sums, bottom = steady_costs(web, amount)
-    return lowest(min([sum_over(sums, way) for way in ways(web)]), bottom)
+    return level_of(web, amount)
 
 
 def costs(web, amount):
@@ -48,18 +47,27 @@ def cheap_roads(web, amount):
 
 def need_amount(amount):
     """Raises InvalidAmount for what is no fraction within the limits of amounts."""
-    if type(amount) is not tuple or len(amount) != 2:
+    if not is_fraction(amount):
         raise InvalidAmount(amount)
     top, bottom = amount
-    if not are_fraction(top, bottom) or top == 0 or top > MOST_AMOUNT or bottom > MOST_PART:
+    if top == 0 or top > MOST_AMOUNT or bottom > MOST_PART:
         raise InvalidAmount(amount)
 
 
-def steady_loads(web, amount):
-    """Steady loads with this amount, which may be any fraction above 0."""
+def steady_loads(web, amount, times=1):
+    """Steady loads with this amount, which may be any fraction above 0.
+
+    They are steady if each B is so many times as great.
+    """
     bases = [road[2] for road in web.roads]
-    rises = [road[3] for road in web.roads]
+    rises = [times * road[3] for road in web.roads]
     return balanced(ways(web), bases, rises, amount)
+
+
+def level_of(web, amount):
+    """The level with this amount, which may be any fraction above 0."""
+    sums, bottom = steady_costs(web, amount)
+    return lowest(min([sum_over(sums, way) for way in ways(web)]), bottom)
 
 
 def steady_costs(web, amount):

@@ -3,6 +3,9 @@
 from fractions import Fraction
 from itertools import combinations
 
+from closedroads.steady import steady_loads
+from closedroads.webs import Web
+
 
 def ordered(roads, indexes, start, end):
     """These roads as a row from place to place that meets no place twice; None if they are none."""
@@ -32,8 +35,19 @@ def own_rows(roads, start, end):
     return sorted(found)
 
 
+# Trying all sets of roads takes long, and many tests ask for the same of the same web.
+TRIED_WAYS, TRIED_CROSSINGS = {}, {}
+
+
+def ends_of(web):
+    return (web.origin, web.goal) + tuple([road[:2] for road in web.roads])
+
+
 def own_ways(web):
-    return tuple(own_rows(web.roads, web.origin, web.goal))
+    ends = ends_of(web)
+    if ends not in TRIED_WAYS:
+        TRIED_WAYS[ends] = tuple(own_rows(web.roads, web.origin, web.goal))
+    return TRIED_WAYS[ends]
 
 
 def own_places(web, row, start=None):
@@ -97,6 +111,13 @@ def own_is_made(web):
 
 def own_crossings(web):
     """All crossing pieces, found by trying all corners and rows."""
+    ends = ends_of(web)
+    if ends not in TRIED_CROSSINGS:
+        TRIED_CROSSINGS[ends] = tried_crossings(web)
+    return TRIED_CROSSINGS[ends]
+
+
+def tried_crossings(web):
     found = []
     rows = {(x, y): own_rows(web.roads, x, y) for x in web.places for y in web.places}
     for x in web.places:
@@ -123,3 +144,67 @@ def pieces_between(web, rows, s, u, v, t):
                   for rest, met in begun for row in rows[start, end]]
         begun = [(rest, met) for rest, met in longer if len(set(met)) == len(met)]
     return [rest for rest, _ in begun]
+
+
+class Doubled:
+    """What these sums need of a web, with each B twice as great, beyond the limit of B if need be."""
+
+    def __init__(self, web):
+        self.origin = web.origin
+        self.goal = web.goal
+        self.roads = tuple([(x, y, base, 2 * rise) for x, y, base, rise in web.roads])
+
+    def __len__(self):
+        return len(self.roads)
+
+
+def own_total(web, loads):
+    """What all drivers pay together, way by way."""
+    return sum([Fraction(top, bottom) * own_price(web, loads, way) for way, top, bottom in loads], Fraction(0))
+
+
+def level_shown(web, loads, amount):
+    """The level that loads show; they have to be steady and to carry the amount."""
+    if own_excess(web, loads) != 0 or own_amount(loads) != Fraction(*amount):
+        raise AssertionError("no steady loads with this amount")
+    return own_price(web, loads, loads[0][0])
+
+
+# The level of a web with an amount is one alone, so it need not be worked out twice.
+KNOWN = {}
+
+
+def own_level(web, amount):
+    """The level of a web, a Fraction, as steady loads show it by sums of the tests' own."""
+    key = (str(web), amount)
+    if key not in KNOWN:
+        KNOWN[key] = level_shown(web, steady_loads(web, amount), amount)
+    return KNOWN[key]
+
+
+def own_closed(web, indexes):
+    """The web without these roads, by its ways that are left; None if none is."""
+    left = [way for way in own_ways(web) if not set(way) & set(indexes)]
+    kept = sorted({index for way in left for index in way})
+    return Web(web.origin, web.goal, tuple([web.roads[index] for index in kept])) if kept else None
+
+
+def own_level_closed(web, indexes, amount):
+    """The level without these roads, a Fraction; None if no way is left."""
+    fewer = own_closed(web, indexes)
+    return None if fewer is None else own_level(fewer, amount)
+
+
+def own_helping(web, amount):
+    """The indexes of all roads whose closing makes the level less."""
+    levels = [own_level_closed(web, (index,), amount) for index in range(len(web))]
+    now = own_level(web, amount)
+    return tuple([index for index, level in enumerate(levels) if level is not None and level < now])
+
+
+def own_waste(web, amount):
+    """The waste, a Fraction, by steady and best loads whose being so these sums have shown."""
+    best = steady_loads(web, amount, 2)
+    level_shown(Doubled(web), best, amount)
+    now, least = own_level(web, amount) * Fraction(*amount), own_total(web, best)
+    return Fraction(1) if now == least == 0 else now / least

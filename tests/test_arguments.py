@@ -4,11 +4,14 @@ import copy
 import inspect
 import unittest
 
+from closedroads import closing as closing_file
 from closedroads import loads as loads_file
 from closedroads import pieces as pieces_file
+from closedroads import profiles as profiles_file
 from closedroads import steady as steady_file
+from closedroads import totals as totals_file
 from closedroads import ways as ways_file
-from closedroads.errors import InvalidAmount, InvalidLoads, InvalidWay, NotAWeb, UnknownRoad
+from closedroads.errors import InvalidAmount, InvalidCost, InvalidLoads, InvalidNumber, InvalidWay, NotAWeb, UnknownRoad
 from closedroads.webs import Web
 from tests.samples import CROSS_TEXT, Agreeing, Touchy, cross, crossed_webs, odd_values, twins
 
@@ -32,9 +35,25 @@ SHAPES = {
         "is_made": "(web)", "making": "(web)", "crossing": "(web)", "middles": "(web)",
         "is_crossing": "(web, piece)", "worst_costs": "(web)",
     },
+    closing_file: {
+        "level_without": "(web, index, amount)", "levels_without": "(web, amount)", "helping": "(web, amount)",
+        "level_raised": "(web, index, amount, by)", "raising_helps": "(web, index, amount, by)",
+        "best_closing": "(web, amount, most)",
+    },
+    totals_file: {
+        "total": "(web, loads)", "best_loads": "(web, amount)", "least_total": "(web, amount)",
+        "tolls": "(web, amount)", "waste": "(web, amount)", "are_best": "(web, loads)",
+    },
+    profiles_file: {
+        "profile": "(web)", "level_at": "(points, slope, amount)", "amount_for": "(web, level)",
+        "is_endless": "(web, level)",
+    },
 }
 CALLS = [getattr(file, name) for file, names in SHAPES.items() for name in names]
-RIGHT = {"web": cross(), "index": 2, "way": (1, 4), "loads": CALM, "amount": (6, 1), "piece": None}
+RIGHT = {
+    "web": cross(), "index": 2, "way": (1, 4), "loads": CALM, "amount": (6, 1), "piece": None, "by": 3, "most": 1,
+    "points": (((0, 1), (0, 1)), ((2, 1), (2, 1))), "slope": (1, 2), "level": (3, 1),
+}
 
 
 def wrong_webs():
@@ -65,6 +84,24 @@ def wrong_amounts():
         ((6,), (1,)), ([6], 1), (6, [1]), {6: 1}, "61", "6/1", 6, 1, b"\x06\x01", range(1, 3), (Touchy(), 1),
         (1, Touchy()), (Agreeing(), 1), (1, Agreeing()), Agreeing(), Touchy(), CALM,
     ]
+    return odd_values() + rows
+
+
+def wrong_fractions():
+    """What is no fraction from 0 on."""
+    rows = [
+        (), (1,), (1, 1, 1), (0, 2), (0, 0), (0, -1), (-1, 1), (-1, 2), (1, 0), (1, -1), (-1, -1), (2, 2), (2, 4),
+        (1000, 1000), (6, 3), (10 ** 99, 10 ** 98), (True, 1), (1, True), (False, 1), (0, True), (True, True),
+        ("1", 1), (1, "1"), (None, 1), (1, None), [0, 1], [1, 1], ((1, 1),), ((1,), (1,)), ([1], 1), (1, [1]),
+        {1: 1}, "11", "1/1", 0, 1, b"\x01\x01", range(1, 3), (Touchy(), 1), (1, Touchy()), (Agreeing(), 1),
+        (1, Agreeing()), Agreeing(), Touchy(), CALM, (0, 1, 1), (1j, 1),
+    ]
+    return odd_values() + rows
+
+
+def wrong_numbers():
+    """What is no integer from 0 to some thousands."""
+    rows = [(), (0,), (1,), [1], "1", "0", b"\x01", {1: 1}, range(1), Touchy(), Agreeing(), CALM, -2, -1000000]
     return odd_values() + rows
 
 
@@ -117,7 +154,19 @@ WRONG = {
     "way": [(value, InvalidWay, "given", value) for value in wrong_ways()],
     "amount": [(value, InvalidAmount, "given", value) for value in wrong_amounts()],
     "loads": [(value, InvalidLoads, "index", index) for value, index in wrong_loads()],
+    # The A of the road with the index 2 is 10.
+    "by": [(value, InvalidCost, "given", value) for value in wrong_numbers() + [999991, 999992, 1000000]],
+    "most": [(value, InvalidNumber, "given", value) for value in wrong_numbers() + [4, 5, 8]],
+    "level": [(value, InvalidNumber, "given", value) for value in wrong_fractions()],
 }
+WRONG_AT_ANY_AMOUNT = [(value, InvalidAmount, "given", value) for value in wrong_fractions()]
+
+
+def wrong_for(call, name):
+    """What may not be passed to a call by this name, and what is told of it."""
+    if call is profiles_file.level_at and name == "amount":
+        return WRONG_AT_ANY_AMOUNT
+    return WRONG.get(name, [])
 
 
 class Interface(unittest.TestCase):
@@ -144,7 +193,7 @@ class WrongArguments(unittest.TestCase):
         for call in CALLS:
             names = list(inspect.signature(call).parameters)
             for at, name in enumerate(names):
-                for told in WRONG.get(name, []):
+                for told in wrong_for(call, name):
                     passed = [RIGHT[other] for other in names]
                     passed[at] = told[0]
                     self.refuse(told, call, *passed)
@@ -154,7 +203,7 @@ class WrongArguments(unittest.TestCase):
         for call in CALLS:
             names = list(inspect.signature(call).parameters)
             for at, name in enumerate(names):
-                for told in WRONG.get(name, [])[:12]:
+                for told in wrong_for(call, name)[:12]:
                     for wrong in (None, [], Touchy()):
                         passed = [RIGHT[other] for other in names[:at]] + [told[0]] + [wrong] * len(names[at + 1:])
                         self.refuse(told, call, *passed)
