@@ -24,17 +24,9 @@ class Web:
     @classmethod
     def told(cls, text):
         """The web with this text."""
-        if type(text) is not str:
+        web = read_web(text)
+        if web is None:
             raise InvalidText(text)
-        lines = text.split("\n")
-        ends = lines[0].split(" ")
-        if len(ends) != 2:
-            raise InvalidText(text)
-        roads = tuple([read_road(line) for line in lines[1:]])
-        try:
-            web = cls(ends[0], ends[1], roads)
-        except (InvalidPlace, InvalidRoads):
-            raise InvalidText(text) from None
         return web
 
     @property
@@ -144,6 +136,20 @@ def need_ways(origin, goal, roads):
     for index in range(len(roads)):
         if index not in used:
             raise InvalidRoads(index)
+
+
+def read_web(text):
+    """The web with this text; None if any value is no text of a web."""
+    if type(text) is not str:
+        return None
+    lines = text.split("\n")
+    ends = lines[0].split(" ")
+    if len(ends) != 2:
+        return None
+    try:
+        return Web(ends[0], ends[1], tuple([read_road(line) for line in lines[1:]]))
+    except (InvalidPlace, InvalidRoads):
+        return None
 
 
 def read_road(line):

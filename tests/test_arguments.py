@@ -4,6 +4,7 @@ import copy
 import inspect
 import unittest
 
+from closedroads import certificates as certificates_file
 from closedroads import closing as closing_file
 from closedroads import loads as loads_file
 from closedroads import pieces as pieces_file
@@ -47,6 +48,9 @@ SHAPES = {
     profiles_file: {
         "profile": "(web)", "level_at": "(points, slope, amount)", "amount_for": "(web, level)",
         "is_endless": "(web, level)",
+    },
+    certificates_file: {
+        "certify_level": "(web, amount)", "certify_making": "(web)", "certify_closing": "(web, amount)",
     },
 }
 CALLS = [getattr(file, name) for file, names in SHAPES.items() for name in names]

@@ -5,7 +5,9 @@ import pathlib
 import unittest
 
 import closedroads
-from closedroads import webs
+from closedroads import console, desks, webs
+from closedroads.console import Console
+from closedroads.desks import Desk
 from closedroads.errors import NotAWeb, UnknownRoad
 from closedroads.webs import Web, need_index, need_web
 from tests.samples import Agreeing, Touchy, cross, odd_values, twins
@@ -34,6 +36,31 @@ class Interface(unittest.TestCase):
             Web.closed: "(self, indexes)",
             Web.turned: "(self)",
             Web.widened: "(self, road)",
+        }
+        for told, shape in shapes.items():
+            self.assertEqual(str(inspect.signature(told)), shape)
+
+
+class DeskAndConsole(unittest.TestCase):
+    def test_they_are_defined_in_their_files(self):
+        for kind, file in ((Desk, desks), (Console, console)):
+            self.assertEqual(kind.__module__, file.__name__)
+            self.assertIn("class " + kind.__name__ + ":", inspect.getsource(file))
+
+    def test_methods_are_defined_in_the_class_itself(self):
+        for name in ("cost", "close", "widen", "flow", "promise", "lift", "undo", "trial", "tried", "__eq__"):
+            self.assertTrue(inspect.isfunction(vars(Desk)[name]), name)
+        for name in ("web", "amount", "promises", "changes"):
+            self.assertIsInstance(vars(Desk)[name], property)
+        self.assertTrue(inspect.isfunction(vars(Console)["say"]))
+        self.assertIsInstance(vars(Console)["desk"], property)
+
+    def test_names_of_parameters(self):
+        shapes = {
+            Desk: "(web, amount)", Desk.cost: "(self, index, base, rise)", Desk.close: "(self, index)",
+            Desk.widen: "(self, road)", Desk.flow: "(self, amount)", Desk.promise: "(self, wish)",
+            Desk.lift: "(self, index)", Desk.undo: "(self)", Desk.trial: "(self)", Desk.tried: "(self, action)",
+            Console: "(web, amount)", Console.say: "(self, command)",
         }
         for told, shape in shapes.items():
             self.assertEqual(str(inspect.signature(told)), shape)
